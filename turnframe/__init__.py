@@ -1,0 +1,1 @@
+"""Square tables, the turns that change them, and the one frame of each."""

@@ -1,0 +1,82 @@
+"""Tables of numbers: what is one, and their sums, products and images."""
+
+from turnframe.errors import NoFit
+
+MOST = 7
+
+
+def is_short_list(thing):
+    return isinstance(thing, list) and 1 <= len(thing) <= MOST
+
+
+def is_row(kind, thing):
+    return is_short_list(thing) and all([kind.is_number(each) for each in thing])
+
+
+def is_table(kind, thing):
+    if not is_short_list(thing) or not all([is_row(kind, row) for row in thing]):
+        return False
+    return all([len(row) == len(thing[0]) for row in thing])
+
+
+def is_square(table):
+    return len(table) == len(table[0])
+
+
+def unit_row(kind, size, place):
+    # Each number is made by itself: where numbers are lists, no two places may hold the same one.
+    return [kind.number(1 if column == place else 0) for column in range(size)]
+
+
+def unit(kind, size):
+    return [unit_row(kind, size, place) for place in range(size)]
+
+
+def column_at(table, place):
+    return [row[place] for row in table]
+
+
+def turned(table):
+    return [column_at(table, place) for place in range(len(table[0]))]
+
+
+def scaled_row(kind, number, row):
+    return [kind.times(number, each) for each in row]
+
+
+def scaled(kind, number, table):
+    return [scaled_row(kind, number, row) for row in table]
+
+
+def plus_row(kind, row, other):
+    return [kind.plus(left, right) for left, right in zip(row, other)]
+
+
+def plus_table(kind, A, B):
+    if len(A) != len(B) or len(A[0]) != len(B[0]):
+        raise NoFit("a sum is of two tables with as many rows and as many columns")
+    return [plus_row(kind, row, other) for row, other in zip(A, B)]
+
+
+def sum_of_products(kind, row, column):
+    total = kind.number(0)
+    for left, right in zip(row, column):
+        total = kind.plus(total, kind.times(left, right))
+    return total
+
+
+def sums_with(kind, table, column):
+    return [sum_of_products(kind, row, column) for row in table]
+
+
+def image(kind, table, column):
+    if len(column) != len(table[0]):
+        raise NoFit("an image is of a column with as many numbers as the table has columns")
+    return sums_with(kind, table, column)
+
+
+def times_table(kind, A, B):
+    if len(A[0]) != len(B):
+        raise NoFit("a product is of a table with as many columns as the second one has rows")
+    columns = turned(B)
+    return [sums_with(kind, columns, row) for row in A]
