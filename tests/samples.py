@@ -1,5 +1,7 @@
 """What the tests share: kinds, numbers, and the checks that go with every answer."""
 
+import copy
+import itertools
 import random
 from fractions import Fraction
 
@@ -65,6 +67,111 @@ def told(kind, worth_of_it):
     if isinstance(kind, Rests):
         return worth_of_it % kind.prime
     return (worth_of_it.numerator, worth_of_it.denominator)
+
+
+def worths(kind, table):
+    return [[worth(kind, each) for each in row] for row in table]
+
+
+def tolds(kind, table):
+    return [[told(kind, each) for each in row] for row in table]
+
+
+def low_table(chance, kind, rows, columns, most, figures=1):
+    """A table whose rank is at most so great: a product of two narrower ones."""
+    left = worths(kind, random_table(chance, kind, rows, most, figures))
+    right = worths(kind, random_table(chance, kind, most, columns, figures))
+    return tolds(kind, [[sum([row[k] * right[k][j] for k in range(most)]) for j in range(columns)] for row in left])
+
+
+def noughts(kind, rows, columns):
+    return [[kind.number(0)] * columns for row in range(rows)]
+
+
+def some_tables(chance, kind, figures=1):
+    """Tables of many sizes and ranks, of one row and of one column among them."""
+    for rows, columns in itertools.product((1, 2, 3, 5, 7), repeat=2):
+        yield random_table(chance, kind, rows, columns, figures)
+        yield noughts(kind, rows, columns)
+        for most in range(1, min(rows, columns)):
+            yield low_table(chance, kind, rows, columns, most, figures)
+
+
+def square_tables(chance, kind, sizes=(1, 2, 3, 4, 7), figures=1):
+    for size in sizes:
+        yield random_table(chance, kind, size, size, figures)
+        yield noughts(kind, size, size)
+        for most in range(1, size):
+            yield low_table(chance, kind, size, size, most, figures)
+
+
+def all_tables(prime, rows, columns):
+    for numbers in itertools.product(range(prime), repeat=rows * columns):
+        yield [list(numbers[row * columns:(row + 1) * columns]) for row in range(rows)]
+
+
+def over_worth(kind, one, other):
+    return one * pow(other, -1, kind.prime) % kind.prime if isinstance(kind, Rests) else one / other
+
+
+def reduced_by_hand(kind, table):
+    """The reduced table and its leads' columns, by Python's own reckoning and column by column."""
+    rows, leads = worths(kind, table), []
+    for column in range(len(table[0])):
+        filled = [i for i in range(len(leads), len(rows)) if told(kind, rows[i][column]) != kind.number(0)]
+        if filled:
+            row = rows.pop(filled[0])
+            row = [over_worth(kind, each, row[column]) for each in row]
+            rows = [[each - other[column] * first for each, first in zip(other, row)] for other in rows]
+            rows.insert(len(leads), row)
+            leads.append(column)
+    return tolds(kind, rows), leads
+
+
+def sign_by_hand(order):
+    pairs = [pair for pair in itertools.combinations(order, 2) if pair[0] > pair[1]]
+    return -1 if len(pairs) % 2 else 1
+
+
+def determinant_by_hand(kind, table):
+    """The sum over all orders of the columns."""
+    rows, total = worths(kind, table), worth(kind, kind.number(0))
+    for order in itertools.permutations(range(len(rows))):
+        product = sign_by_hand(order)
+        for row, column in zip(rows, order):
+            product *= row[column]
+        total += product
+    return told(kind, total)
+
+
+def product_by_hand(kind, some, others):
+    return told(kind, sum([worth(kind, one) * worth(kind, other) for one, other in zip(some, others)]))
+
+
+def lists_in(thing):
+    """All lists within a list or tuple, itself too."""
+    within = [each for part in thing for each in lists_in(part)] if isinstance(thing, (list, tuple)) else []
+    return ([thing] if isinstance(thing, list) else []) + within
+
+
+def check_own(case, call, arguments):
+    """What was handed in stays as it was, and each list told is new, stands once, and is the asker's own."""
+    handed = [each for each in arguments if isinstance(each, list)]
+    before = copy.deepcopy(handed)
+    answer = call(*arguments)
+    case.assertEqual(handed, before, call)
+    given = lists_in(answer)
+    case.assertEqual(len({id(each) for each in given}), len(given), call)
+    old = {id(each) for each in lists_in(handed)}
+    case.assertFalse([each for each in given if id(each) in old], call)
+    kept = copy.deepcopy(answer)
+    again = call(*arguments)
+    case.assertEqual(again, kept, call)
+    for each in given:
+        each.clear()
+    case.assertEqual(handed, before, call)
+    case.assertEqual(again, kept, call)
+    case.assertEqual(call(*arguments), kept, call)
 
 
 def refused(case, refusal, call, *arguments):

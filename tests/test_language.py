@@ -1,6 +1,7 @@
 """The package keeps to the small part of Python that it is written in: the rules a syntax tree shows."""
 
 import ast
+import builtins
 import pathlib
 import re
 import unittest
@@ -27,6 +28,18 @@ NODES_OUT = (
     ast.Div, ast.GeneratorExp, ast.Global, ast.Import, ast.MatMult, ast.Match, ast.NamedExpr, ast.Nonlocal,
     ast.SetComp, ast.Starred, ast.With, ast.Yield, ast.YieldFrom,
 )
+STATEMENTS = (
+    ast.Assign, ast.AugAssign, ast.Break, ast.ClassDef, ast.Continue, ast.Expr, ast.For, ast.FunctionDef, ast.If,
+    ast.ImportFrom, ast.Pass, ast.Raise, ast.Return, ast.Try, ast.While,
+)
+NAMES_OUT = """
+    register mro elements open input version_info with_traceback add_note attrgetter breakpoint builtins compile
+    copyright credits delattr dir eval exec exit gc getattr globals hasattr help id importlib license locals
+    methodcaller os quit setattr super type vars sys chr format format_map
+""".split()
+VALUES_OF_PYTHON = (0, "", [], (), {}, set(), b"")
+WALKED = ("zip", "enumerate", "reversed", "range")
+WALKERS = ("list", "tuple", "dict", "sorted", "sum", "any", "all", "enumerate", "zip", "min", "max")
 
 
 def files():
@@ -52,6 +65,51 @@ def bound_in(tree_nodes):
         elif isinstance(node, ast.ExceptHandler) and node.name:
             found.add(node.name)
     return found
+
+
+def names_at_top(tree):
+    """Every name that a file binds at its top, as often as it binds it there."""
+    found = []
+    for node in tree.body:
+        if isinstance(node, (ast.FunctionDef, ast.ClassDef)):
+            found.append(node.name)
+        elif isinstance(node, ast.ImportFrom):
+            found += [each.asname or each.name for each in node.names]
+        elif isinstance(node, ast.Assign):
+            found += [each.id for each in ast.walk(node) if isinstance(each, ast.Name)]
+    return found
+
+
+def locals_of(function):
+    """The parameters and locals of a def."""
+    found = {each.arg for each in ast.walk(function) if isinstance(each, ast.arg)}
+    stored = [each for each in ast.walk(function) if isinstance(each, ast.Name) and isinstance(each.ctx, ast.Store)]
+    return found | {each.id for each in stored}
+
+
+def drawn_from(path):
+    """The files of the package that a file imports from, with the names it takes."""
+    tree = ast.parse(path.read_text(encoding="utf-8"))
+    rows = [node for node in tree.body if isinstance(node, ast.ImportFrom)]
+    return [(node.module.split(".")[1], [each.name for each in node.names]) for node in rows]
+
+
+def walked_calls(tree_nodes):
+    """The calls whose answer is to be walked on the spot, and those that stand where they are walked."""
+    found, right = [], []
+    for node in tree_nodes:
+        if isinstance(node, ast.Call) and called(node) in WALKED + ("items", "keys", "values"):
+            found.append(node)
+        if isinstance(node, (ast.For, ast.comprehension)):
+            right.append(node.iter)
+        if isinstance(node, ast.Call) and called(node) in WALKERS and node.args:
+            # What zip is handed is walked with it, whichever place it stands at.
+            right += node.args if called(node) == "zip" else node.args[:1]
+    return found, right
+
+
+def called(node):
+    return node.func.id if isinstance(node.func, ast.Name) else getattr(node.func, "attr", None)
 
 
 def methods_of_the_package():
@@ -132,6 +190,79 @@ class Language(unittest.TestCase):
                     self.assertIn(node.id, bound | set(NAMES_OF_PYTHON), (path.name, node.lineno))
                 if isinstance(node, ast.Call) and isinstance(node.func, ast.Attribute):
                     self.assertIn(node.func.attr, own_methods | set(METHODS_OF_PYTHON), (path.name, node.lineno))
+
+    def test_statements(self):
+        for path in files():
+            tree = ast.parse(path.read_text(encoding="utf-8"))
+            for node in ast.walk(tree):
+                if isinstance(node, ast.stmt):
+                    self.assertIsInstance(node, STATEMENTS, (path.name, node.lineno))
+            for node in tree.body:
+                self.assertIsInstance(node, (ast.Expr, ast.ImportFrom, ast.FunctionDef, ast.ClassDef, ast.Assign))
+            for node in ast.walk(tree):
+                if isinstance(node, ast.ClassDef):
+                    for each in node.body:
+                        plain = isinstance(each, ast.Expr) and isinstance(each.value, ast.Constant)
+                        self.assertTrue(plain or isinstance(each, (ast.FunctionDef, ast.Pass)), (path.name, node.name))
+
+    def test_each_name_at_a_top_once_and_none_of_them_as_a_local(self):
+        for path in files():
+            tree = ast.parse(path.read_text(encoding="utf-8"))
+            top = names_at_top(tree)
+            self.assertEqual(len(set(top)), len(top), path.name)
+            for node in ast.walk(tree):
+                if isinstance(node, ast.FunctionDef):
+                    self.assertEqual(locals_of(node) & set(top), set(), (path.name, node.name))
+                    self.assertEqual(locals_of(node) & set(dir(builtins)), set(), (path.name, node.name))
+
+    def test_names_that_are_not_used(self):
+        for path in files():
+            for node in nodes(path):
+                names = [getattr(node, field, None) for field in ("id", "attr", "name", "arg")]
+                self.assertEqual([each for each in names if each in NAMES_OUT], [], path.name)
+
+    def test_imports_are_from_the_defining_file_and_none_go_round(self):
+        below = {path.stem: drawn_from(path) for path in files()}
+        for name, rows in below.items():
+            for module, taken in rows:
+                defined = [each for each in (PACKAGE / f"{module}.py",) if each.is_file()]
+                self.assertTrue(defined, (name, module))
+                tree = ast.parse(defined[0].read_text(encoding="utf-8"))
+                tree.body = [each for each in tree.body if not isinstance(each, ast.ImportFrom)]
+                own = names_at_top(tree)
+                self.assertEqual([each for each in taken if each not in own], [], (name, module))
+        left = {name: {module for module, taken in rows} for name, rows in below.items()}
+        while left:
+            lowest = [name for name, modules in left.items() if not modules & set(left)]
+            self.assertTrue(lowest, sorted(left))
+            left = {name: modules for name, modules in left.items() if name not in lowest}
+
+    def test_is_powers_and_signs(self):
+        for path in files():
+            for node in nodes(path):
+                where = (path.name, getattr(node, "lineno", None))
+                if isinstance(node, ast.Compare) and isinstance(node.ops[0], (ast.Is, ast.IsNot)):
+                    self.assertIsInstance(node.comparators[0], ast.Constant, where)
+                if isinstance(node, ast.BinOp) and isinstance(node.op, ast.Pow):
+                    self.assertIsInstance(node.right, ast.Constant, where)
+                if isinstance(node, ast.Constant) and isinstance(node.value, str):
+                    self.assertNotIn("%", node.value, where)
+
+    def test_walked_on_the_spot(self):
+        for path in files():
+            found, right = walked_calls(nodes(path))
+            self.assertEqual([(path.name, node.lineno) for node in found if node not in right], [])
+
+    def test_methods_and_values(self):
+        values = set()
+        for path in files():
+            for node in nodes(path):
+                if isinstance(node, ast.Attribute) and isinstance(node.ctx, ast.Store):
+                    values.add(node.attr)
+        methods = methods_of_the_package() - set(SPECIAL_METHODS)
+        self.assertEqual(methods & values, set())
+        for name in sorted(methods | values):
+            self.assertFalse([each for each in VALUES_OF_PYTHON if hasattr(each, name)], name)
 
 
 if __name__ == "__main__":

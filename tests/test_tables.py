@@ -1,7 +1,9 @@
 import copy
 import unittest
 
-from samples import ODDITIES, SIXTY, kinds, random_number, random_row, random_table, refused, source, told, worth
+from samples import (
+    ODDITIES, SIXTY, check_own, kinds, random_number, random_row, random_table, refused, source, told, worth,
+)
 
 from turnframe.errors import NoFit
 from turnframe.kinds import Fractions, Kind, Rests
@@ -239,33 +241,10 @@ class AskersOwn(unittest.TestCase):
             (image, [kind, A, column]), (image, [kind, unit(kind, 3), column]), (image, [kind, A, A[0]]),
         ]
 
-    def lists_in(self, thing):
-        if not isinstance(thing, list):
-            return []
-        return [thing] + [each for part in thing for each in self.lists_in(part)]
-
-    def check_call(self, call, arguments):
-        handed = [each for each in arguments if isinstance(each, list)]
-        before = copy.deepcopy(handed)
-        answer = call(*arguments)
-        self.assertEqual(handed, before, call)
-        given = self.lists_in(answer)
-        self.assertEqual(len({id(each) for each in given}), len(given), call)
-        old = {id(each) for each in self.lists_in(handed)}
-        self.assertFalse([each for each in given if id(each) in old], call)
-        kept = copy.deepcopy(answer)
-        again = call(*arguments)
-        self.assertEqual(again, kept, call)
-        for each in given:
-            each.clear()
-        self.assertEqual(handed, before, call)
-        self.assertEqual(again, kept, call)
-        self.assertEqual(call(*arguments), kept, call)
-
     def test_answers_are_new_and_what_was_handed_in_is_as_it_was(self):
         for kind in kinds():
             for call, arguments in self.calls(kind):
-                self.check_call(call, arguments)
+                check_own(self, call, arguments)
 
     def test_asking_what_is_a_table_changes_nothing(self):
         for table in ([[1, 2], [3, 4]], [[1, 2], [3]], [[True]], []):

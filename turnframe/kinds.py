@@ -9,6 +9,16 @@ class Kind:
     def over(self, one, other):
         return self.times(one, self.back(other))
 
+    def sum_of_products(self, some, others):
+        total = self.number(0)
+        for one, other in zip(some, others):
+            total = self.plus(total, self.times(one, other))
+        return total
+
+    def common_bottom(self, some):
+        # A whole number that takes the bottoms from all of some; only fractions have any.
+        return 1
+
 
 class Fractions(Kind):
 
@@ -47,6 +57,22 @@ class Fractions(Kind):
             return (-one[1], -one[0])
         return (one[1], one[0])
 
+    def sum_of_products(self, some, others):
+        # Whole numbers are summed over one bottom, so that the sum is brought to its one form but once.
+        ahead = self.common_bottom(some)
+        behind = self.common_bottom(others)
+        total = 0
+        for one, other in zip(some, others):
+            total += one[0] * (ahead // one[1]) * other[0] * (behind // other[1])
+        return self.number(total, ahead * behind)
+
+    def common_bottom(self, some):
+        bottom = 1
+        for one in some:
+            if bottom % one[1] != 0:
+                bottom = bottom // divisor(bottom, one[1]) * one[1]
+        return bottom
+
     def is_nought(self, one):
         return one[0] == 0
 
@@ -81,6 +107,9 @@ class Rests(Kind):
 
     def back(self, one):
         return self.number(1, one)
+
+    def sum_of_products(self, some, others):
+        return sum([one * other for one, other in zip(some, others)]) % self.prime
 
     def is_nought(self, one):
         return one == 0

@@ -23,6 +23,11 @@ def is_square(table):
     return len(table) == len(table[0])
 
 
+def need_square(table):
+    if not is_square(table):
+        raise NoFit("a table with as many rows as columns is needed")
+
+
 def unit_row(kind, size, place):
     # Each number is made by itself: where numbers are lists, no two places may hold the same one.
     return [kind.number(1 if column == place else 0) for column in range(size)]
@@ -58,15 +63,8 @@ def plus_table(kind, A, B):
     return [plus_row(kind, row, other) for row, other in zip(A, B)]
 
 
-def sum_of_products(kind, row, column):
-    total = kind.number(0)
-    for left, right in zip(row, column):
-        total = kind.plus(total, kind.times(left, right))
-    return total
-
-
 def sums_with(kind, table, column):
-    return [sum_of_products(kind, row, column) for row in table]
+    return [kind.sum_of_products(row, column) for row in table]
 
 
 def image(kind, table, column):
@@ -80,3 +78,18 @@ def times_table(kind, A, B):
         raise NoFit("a product is of a table with as many columns as the second one has rows")
     columns = turned(B)
     return [sums_with(kind, columns, row) for row in A]
+
+
+def freed(kind, table):
+    """The table with each row times a whole number that takes its bottoms, and the product of these numbers.
+
+    So the determinant is taken times that product. Of many fractions sums and products are quick where all bottoms
+    are 1, and slow where each sum has a greater bottom than the one before.
+    """
+    rows = []
+    bottom = 1
+    for row in table:
+        factor = kind.common_bottom(row)
+        rows.append(scaled_row(kind, kind.number(factor), row))
+        bottom *= factor
+    return (rows, bottom)
