@@ -30,6 +30,29 @@ def kinds():
     return [Fractions()] + [Rests(prime) for prime in PRIMES]
 
 
+class FractionsUndivided(Fractions):
+    """Fractions that are not to be divided."""
+
+    def back(self, one):
+        raise AssertionError("divided")
+
+    def over(self, one, other):
+        raise AssertionError("divided")
+
+
+class RestsUndivided(Rests):
+
+    def back(self, one):
+        raise AssertionError("divided")
+
+    def over(self, one, other):
+        raise AssertionError("divided")
+
+
+def undivided_kinds():
+    return [FractionsUndivided(), RestsUndivided(2), RestsUndivided(7)]
+
+
 def source(seed):
     return random.Random(seed)
 
@@ -146,6 +169,92 @@ def determinant_by_hand(kind, table):
 
 def product_by_hand(kind, some, others):
     return told(kind, sum([worth(kind, one) * worth(kind, other) for one, other in zip(some, others)]))
+
+
+def random_poly(chance, kind, count, figures=1):
+    """A polynomial of so many numbers; [] where they are none."""
+    last = kind.number(0)
+    while kind.is_nought(last):
+        last = random_number(chance, kind, figures)
+    return random_row(chance, kind, count - 1, figures) + [last] if count > 0 else []
+
+
+def monic_poly(chance, kind, degree, figures=1):
+    return random_row(chance, kind, degree, figures) + [kind.number(1)]
+
+
+def told_poly(kind, numbers):
+    """The polynomial that a list of Python's own numbers comes to."""
+    answer = [told(kind, each) for each in numbers]
+    while answer and answer[-1] == kind.number(0):
+        answer.pop()
+    return answer
+
+
+def sum_poly_by_hand(kind, some, others, sign=1):
+    numbers = [worth(kind, kind.number(0))] * max(len(some), len(others))
+    for place, each in enumerate(some):
+        numbers[place] += worth(kind, each)
+    for place, each in enumerate(others):
+        numbers[place] += sign * worth(kind, each)
+    return told_poly(kind, numbers)
+
+
+def product_poly_by_hand(kind, some, others):
+    numbers = [worth(kind, kind.number(0))] * (len(some) + len(others))
+    for place, one in enumerate(some):
+        for further, other in enumerate(others):
+            numbers[place + further] += worth(kind, one) * worth(kind, other)
+    return told_poly(kind, numbers)
+
+
+def all_polys(prime, degree):
+    """All monic polynomials of a degree over the rests by a prime."""
+    return [list(numbers) + [1] for numbers in itertools.product(range(prime), repeat=degree)]
+
+
+def determinant_of_polys(kind, table):
+    """The sum over all orders of the columns, of a table of polynomials; kind is that of their numbers."""
+    total = []
+    for order in itertools.permutations(range(len(table))):
+        product = [kind.number(sign_by_hand(order))]
+        for row, column in zip(table, order):
+            product = product_poly_by_hand(kind, product, row[column])
+        total = sum_poly_by_hand(kind, total, product)
+    return total
+
+
+def times_by_hand(left, right):
+    columns = list(zip(*right))
+    return [[sum([one * other for one, other in zip(row, column)]) for column in columns] for row in left]
+
+
+def table_at_by_hand(kind, f, table):
+    """The sum of the numbers of f times the powers of the table, the powers one by one."""
+    size, rows = len(table), worths(kind, table)
+    power = [[1 if row == column else 0 for column in range(size)] for row in range(size)]
+    total = worths(kind, noughts(kind, size, size))
+    for each in f:
+        total = [[one + worth(kind, each) * other for one, other in zip(*pair)] for pair in zip(total, power)]
+        power = times_by_hand(power, rows)
+    return tolds(kind, total)
+
+
+def random_poly_table(chance, kind, rows, columns, most, figures=1):
+    """A table of polynomials of at most so many numbers, [] among them."""
+    return [[random_poly(chance, kind, chance.randint(0, most), figures) for place in range(columns)]
+            for row in range(rows)]
+
+
+def blocks_by_hand(kind, tables):
+    """The tables one after the other down where row and column are the same."""
+    size = sum([len(each) for each in tables])
+    answer, start = noughts(kind, size, size), 0
+    for each in tables:
+        for place, row in enumerate(each):
+            answer[start + place][start:start + len(row)] = row
+        start += len(each)
+    return answer
 
 
 def lists_in(thing):

@@ -4,9 +4,10 @@ import unittest
 
 from samples import (
     all_tables, check_own, determinant_by_hand, kinds, low_table, noughts, random_number, random_table, refused, source,
-    square_tables,
+    square_tables, undivided_kinds,
 )
 
+from turnframe.bare import without
 from turnframe.dets import by_minors, by_steps, cofactors, minor
 from turnframe.errors import NoFit
 from turnframe.kinds import Fractions, Rests
@@ -14,26 +15,7 @@ from turnframe.steps import rank
 from turnframe.tables import is_table, scaled, times_table, turned, unit
 
 SEVEN = Rests(7)
-WAYS = (by_steps, by_minors)
-
-
-class FractionsUndivided(Fractions):
-    """Fractions that are not to be divided."""
-
-    def back(self, one):
-        raise AssertionError("divided")
-
-    def over(self, one, other):
-        raise AssertionError("divided")
-
-
-class RestsUndivided(Rests):
-
-    def back(self, one):
-        raise AssertionError("divided")
-
-    def over(self, one, other):
-        raise AssertionError("divided")
+WAYS = (by_steps, by_minors, without)
 
 
 def part(table, rows, columns):
@@ -96,6 +78,7 @@ class Determinants(unittest.TestCase):
             self.check(kind, random_table(chance, kind, size, size))
         table = random_table(chance, kind, 7, 7)
         self.assertEqual(by_steps(kind, table), by_minors(kind, table))
+        self.assertEqual(by_steps(kind, table), without(kind, table))
 
     def test_two_rows_alike(self):
         chance = source(165)
@@ -114,12 +97,13 @@ class Determinants(unittest.TestCase):
                     for way in WAYS + (cofactors,):
                         refused(self, NoFit, way, kind, noughts(kind, rows, columns))
 
-    def test_by_minors_divides_nowhere(self):
+    def test_two_ways_divide_nowhere(self):
         chance = source(166)
-        for kind in (FractionsUndivided(), RestsUndivided(2), RestsUndivided(7)):
+        for kind in undivided_kinds():
             for size in (1, 2, 4):
                 table = random_table(chance, kind, size, size)
                 self.assertEqual(by_minors(kind, table), determinant_by_hand(kind, table))
+                self.assertEqual(without(kind, table), determinant_by_hand(kind, table))
                 cofactors(kind, table)
                 minor(kind, table, [0], [size - 1])
 

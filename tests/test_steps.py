@@ -2,7 +2,8 @@ import copy
 import unittest
 
 from samples import (
-    all_tables, check_own, kinds, low_table, noughts, product_by_hand, random_table, reduced_by_hand, some_tables, source,
+    all_tables, check_own, kinds, low_table, noughts, product_by_hand, random_table, reduced_by_hand, some_tables,
+    source,
 )
 
 from turnframe.kinds import Fractions, Rests

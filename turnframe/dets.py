@@ -2,6 +2,7 @@
 
 from turnframe.steps import emptied
 from turnframe.tables import freed, need_square, turned
+from turnframe.wholes import sign_of
 
 
 def by_steps(kind, table):
@@ -12,10 +13,6 @@ def by_steps(kind, table):
         return kind.number(0)
     swaps = len([turn for turn in found[1] if turn[0] == "swap"])
     return kind.times(found[3], kind.number(sign_of(swaps), part[1]))
-
-
-def sign_of(count):
-    return 1 if count % 2 == 0 else -1
 
 
 def expanded(kind, signed, columns, minors):

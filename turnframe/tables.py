@@ -93,3 +93,12 @@ def freed(kind, table):
         rows.append(scaled_row(kind, kind.number(factor), row))
         bottom *= factor
     return (rows, bottom)
+
+
+def evenly_freed(kind, table):
+    """The table times one whole number that takes all of its bottoms, and that number."""
+    numbers = []
+    for row in table:
+        numbers.extend(row)
+    bottom = kind.common_bottom(numbers)
+    return (scaled(kind, kind.number(bottom), table), bottom)

@@ -45,3 +45,7 @@ def is_prime(number):
             return False
         trial += 2
     return True
+
+
+def sign_of(count):
+    return 1 if count % 2 == 0 else -1
