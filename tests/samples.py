@@ -7,6 +7,7 @@ from fractions import Fraction
 
 from turnframe import errors
 from turnframe.kinds import Fractions, Rests
+from turnframe.tables import is_table
 
 PRIMES = (2, 3, 5, 7, 101, 997, 65537, 999979, 999983)
 SIXTY = 10 ** 60 - 1
@@ -255,6 +256,87 @@ def blocks_by_hand(kind, tables):
             answer[start + place][start:start + len(row)] = row
         start += len(each)
     return answer
+
+
+def x_less(kind, table):
+    """The table of polynomials of x less a table."""
+    rows = [[sum_poly_by_hand(kind, [], [each], -1) for each in row] for row in table]
+    for place, row in enumerate(rows):
+        row[place] = sum_poly_by_hand(kind, row[place], [kind.number(0), kind.number(1)])
+    return rows
+
+
+def companion_by_hand(kind, f):
+    degree = len(f) - 1
+    table = noughts(kind, degree, degree)
+    for place in range(1, degree):
+        table[place][place - 1] = kind.number(1)
+    for place in range(degree):
+        table[place][degree - 1] = kind.minus(kind.number(0), f[place])
+    return table
+
+
+def like(chance, kind, table):
+    """A table like it: each turn of its rows is undone in its columns."""
+    rows = worths(kind, table)
+    for turn in range(3 * len(rows) if len(rows) > 1 else 0):
+        i, j = chance.sample(range(len(rows)), 2)
+        factor = chance.choice((-2, -1, 1, 2, 3))
+        rows[i] = [one + factor * other for one, other in zip(rows[i], rows[j])]
+        for row in rows:
+            row[j] -= factor * row[i]
+    order = chance.sample(range(len(rows)), len(rows))
+    return tolds(kind, [[rows[place][column] for column in order] for place in order])
+
+
+def falling_sizes(size, most=7):
+    """All lists of whole numbers from 1 to most that come to the size, none greater than the one ahead of it."""
+    if size == 0:
+        return [[]]
+    return [[first] + rest for first in range(min(size, most), 0, -1) for rest in falling_sizes(size - first, first)]
+
+
+def random_chain(chance, kind, degrees, figures=1):
+    """A chain of monic polynomials of these falling degrees: each is divided by the next one."""
+    chain, last = [], [kind.number(1)]
+    for degree in reversed(degrees):
+        last = product_poly_by_hand(kind, last, monic_poly(chance, kind, degree - len(last) + 1, figures))
+        chain.insert(0, last)
+    return chain
+
+
+def blocks_of_chain(kind, chain):
+    return blocks_by_hand(kind, [companion_by_hand(kind, f) for f in chain])
+
+
+def times_table_by_hand(kind, left, right):
+    return tolds(kind, times_by_hand(worths(kind, left), worths(kind, right)))
+
+
+def unit_by_hand(kind, size):
+    return [[kind.number(int(row == column)) for column in range(size)] for row in range(size)]
+
+
+def check_turns(case, kind, A, T, S, B):
+    """A T = T B, and S T is the unit."""
+    for each in (T, S):
+        case.assertIs(is_table(kind, each), True)
+        case.assertEqual((len(each), len(each[0])), (len(A), len(A)))
+    case.assertEqual(times_table_by_hand(kind, S, T), unit_by_hand(kind, len(A)))
+    case.assertEqual(times_table_by_hand(kind, A, T), times_table_by_hand(kind, T, B))
+
+
+def families(prime, size):
+    """All tables over the rests by a prime, each with the least one that is like it, found by trying all turns."""
+    tables = list(all_tables(prime, size, size))
+    kind, found = Rests(prime), {}
+    one = unit_by_hand(kind, size)
+    pairs = [(T, S) for T in tables for S in tables if times_table_by_hand(kind, S, T) == one]
+    for A in tables:
+        if str(A) not in found:
+            for T, S in pairs:
+                found[str(times_table_by_hand(kind, S, times_table_by_hand(kind, A, T)))] = A
+    return [(A, found[str(A)]) for A in tables]
 
 
 def lists_in(thing):

@@ -3,37 +3,18 @@ import itertools
 import unittest
 
 from samples import (
-    all_polys, all_tables, blocks_by_hand, check_own, determinant_of_polys, kinds, low_table, monic_poly, noughts,
-    random_row, random_table, refused, source, square_tables, sum_poly_by_hand, table_at_by_hand,
+    all_polys, all_tables, blocks_by_hand, check_own, companion_by_hand, determinant_of_polys, kinds, like, low_table,
+    monic_poly, noughts, random_row, random_table, refused, source, square_tables, table_at_by_hand, x_less,
 )
 
 from turnframe.errors import NoFit
 from turnframe.kinds import Fractions, Rests
 from turnframe.leasts import great, least, least_of
 from turnframe.polys import Polys, divided
-from turnframe.solving import inverse
 from turnframe.steps import rank
-from turnframe.tables import image, times_table, turned, unit
+from turnframe.tables import image, turned, unit
 
 SEVEN = Rests(7)
-
-
-def x_less(kind, table):
-    """The table of polynomials of x less a table."""
-    rows = [[sum_poly_by_hand(kind, [], [each], -1) for each in row] for row in table]
-    for place, row in enumerate(rows):
-        row[place] = sum_poly_by_hand(kind, row[place], [kind.number(0), kind.number(1)])
-    return rows
-
-
-def companion_by_hand(kind, f):
-    degree = len(f) - 1
-    table = noughts(kind, degree, degree)
-    for place in range(1, degree):
-        table[place][place - 1] = kind.number(1)
-    for place in range(degree):
-        table[place][degree - 1] = kind.minus(kind.number(0), f[place])
-    return table
 
 
 def images_in_turn(kind, A, column, count):
@@ -42,15 +23,6 @@ def images_in_turn(kind, A, column, count):
     while len(columns) < count:
         columns.append(image(kind, A, columns[-1]))
     return columns
-
-
-def like(chance, kind, table):
-    """A table that a turn leads to from the table."""
-    size = len(table)
-    T = random_table(chance, kind, size, size, 1)
-    while rank(kind, T) < size:
-        T = random_table(chance, kind, size, size, 1)
-    return times_table(kind, inverse(kind, T), times_table(kind, table, T))
 
 
 class LeastOfAColumn(unittest.TestCase):

@@ -3,7 +3,7 @@
 from turnframe.bare import falling_numbers
 from turnframe.errors import NoFit
 from turnframe.polys import Polys, common_part, divided, trimmed
-from turnframe.tables import evenly_freed, image, need_square, plus_row, scaled_row, turned, unit
+from turnframe.tables import evenly_freed, image, need_square, plus_row, scaled_row, turned, unit_row
 
 
 def need_column(A, column):
@@ -36,16 +36,24 @@ def climbed(kind, f, A, column):
     return columns
 
 
+def tops_over(kind, f, A, column):
+    """For each row, f times what the inverse of x less A makes of a column that f's value at A brings to noughts.
+
+    These are polynomials: the rows of the climbed columns tell them, the highest power first.
+    """
+    rows = turned(climbed(kind, f, A, column)[:-1])
+    return [trimmed(kind, list(reversed(numbers))) for numbers in rows]
+
+
 def least_within(kind, A, whole, column):
     """The least polynomial of a column, whole being the great polynomial of A.
 
-    The rows of the climbed columns are the polynomials, highest power first, of the column's image under the
-    cofactors of x less A. What whole has in common with all of them is what the column does not need.
+    What whole has in common with all the tops over it is what the column does not need.
     """
     shared = whole
-    for numbers in turned(climbed(kind, whole, A, column)[:-1]):
+    for top in tops_over(kind, whole, A, column):
         if len(shared) > 1:
-            shared = common_part(kind, shared, trimmed(kind, list(reversed(numbers))))
+            shared = common_part(kind, shared, top)
     return divided(kind, whole, shared)[0]
 
 
@@ -81,10 +89,19 @@ def joined(kind, A, one, other):
     return (Polys(kind).times(one[0], more), plus_row(kind, left, right))
 
 
+def gathered(kind, A, bound, least_at):
+    """A shortest polynomial that those of all unit columns divide, and a column that has it.
+
+    The polynomial of the unit column with one at a place is least_at(place). Where a polynomial of bound numbers is
+    found, there is none with more, so the places behind it are not asked.
+    """
+    found = ([kind.number(1)], [kind.number(0) for row in A])
+    for place in range(len(A)):
+        if len(found[0]) < bound:
+            found = joined(kind, A, found, (least_at(place), unit_row(kind, len(A), place)))
+    return found
+
+
 def least(kind, A):
     whole = great(kind, A)
-    found = ([kind.number(1)], [kind.number(0) for row in A])
-    for column in unit(kind, len(A)):
-        if len(found[0]) < len(whole):
-            found = joined(kind, A, found, (least_within(kind, A, whole, column), column))
-    return found
+    return gathered(kind, A, len(whole), lambda place: least_within(kind, A, whole, unit_row(kind, len(A), place)))

@@ -88,7 +88,12 @@ def kernel_column(kind, reduced, leads, place):
     return column
 
 
-def kernel(kind, table):
+def free_kernel(kind, table):
+    """The kernel, and the places of the columns without a lead: there each column of the room has its multiples."""
     found = steps(kind, table)
-    free = [place for place in range(len(table[0])) if place not in found[2]]
-    return [kernel_column(kind, found[0], found[2], place) for place in free]
+    places = [place for place in range(len(table[0])) if place not in found[2]]
+    return ([kernel_column(kind, found[0], found[2], place) for place in places], places)
+
+
+def kernel(kind, table):
+    return free_kernel(kind, table)[0]

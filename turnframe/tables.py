@@ -80,6 +80,19 @@ def times_table(kind, A, B):
     return [sums_with(kind, columns, row) for row in A]
 
 
+def set_down(kind, parts):
+    """Square tables one after the other down where row and column are the same, and nought elsewhere."""
+    size = sum([len(part) for part in parts])
+    rows = []
+    for part in parts:
+        ahead = len(rows)
+        for row in part:
+            wide = [kind.number(0) for place in range(size)]
+            wide[ahead:ahead + len(part)] = row
+            rows.append(wide)
+    return rows
+
+
 def freed(kind, table):
     """The table with each row times a whole number that takes its bottoms, and the product of these numbers.
 

@@ -1,0 +1,43 @@
+"""Two square tables told alike, with a turn between them, or apart, with a polynomial that parts them."""
+
+from turnframe.errors import NoFit
+from turnframe.frames import frame_by
+from turnframe.polys import common_part, divided
+from turnframe.splits import heads
+from turnframe.tables import need_square, times_table
+
+
+def rank_at(kind, chain, g):
+    """The rank of g's value at a table with this chain: each block loses what its polynomial has in common with g."""
+    return sum([len(f) - len(common_part(kind, f, g)) for f in chain])
+
+
+def parting(kind, ours, theirs):
+    """A polynomial whose ranks differ at tables with these two chains, which are unlike.
+
+    At the first place where the chains differ, the polynomial of one chain takes from its own table all that is left
+    there, and from the other table less, unless the other chain's polynomial divides it.
+    """
+    place = 0
+    while ours[place] == theirs[place]:
+        place += 1
+    if len(divided(kind, ours[place], theirs[place])[1]) > 0:
+        return ours[place]
+    return theirs[place]
+
+
+def alike(kind, A, B):
+    need_square(A)
+    need_square(B)
+    if len(A) != len(B):
+        raise NoFit("only tables of as many rows are told alike or apart")
+    ours = heads(kind, A)
+    theirs = heads(kind, B)
+    chain = [head[0] for head in ours]
+    other = [head[0] for head in theirs]
+    if chain != other:
+        g = parting(kind, chain, other)
+        return ("apart", g, rank_at(kind, chain, g), rank_at(kind, other, g))
+    near = frame_by(kind, A, ours)
+    far = frame_by(kind, B, theirs)
+    return ("alike", times_table(kind, near[1], far[2]), times_table(kind, far[1], near[2]))
