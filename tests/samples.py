@@ -31,6 +31,20 @@ def kinds():
     return [Fractions()] + [Rests(prime) for prime in PRIMES]
 
 
+def few_kinds():
+    """For tests that take long: the kinds at the edges."""
+    return [Fractions(), Rests(2), Rests(3), Rests(999983)]
+
+
+def near_kinds():
+    """The kinds whose roots are told: fractions, and rests by primes below 1000."""
+    return [kind for kind in kinds() if not isinstance(kind, Rests) or kind.prime < 1000]
+
+
+def few_near_kinds():
+    return [Fractions(), Rests(2), Rests(5), Rests(997)]
+
+
 class FractionsUndivided(Fractions):
     """Fractions that are not to be divided."""
 
@@ -207,6 +221,15 @@ def product_poly_by_hand(kind, some, others):
         for further, other in enumerate(others):
             numbers[place + further] += worth(kind, one) * worth(kind, other)
     return told_poly(kind, numbers)
+
+
+def poly_with_roots(kind, some, factor=None):
+    """The product of x less each root, so many times, with another factor if there is one."""
+    f = [kind.number(1)] if factor is None else factor
+    for root, times in some:
+        for turn in range(times):
+            f = product_poly_by_hand(kind, f, [kind.minus(kind.number(0), root), kind.number(1)])
+    return f
 
 
 def all_polys(prime, degree):

@@ -5,8 +5,8 @@ import unittest
 
 from samples import (
     blocks_by_hand, blocks_of_chain, check_own, check_turns, companion_by_hand, determinant_of_polys, falling_sizes,
-    families, kinds, like, low_table, monic_poly, noughts, product_poly_by_hand, random_chain, random_table, refused,
-    source, square_tables, table_at_by_hand, unit_by_hand, x_less,
+    families, few_kinds, kinds, like, low_table, monic_poly, noughts, product_poly_by_hand, random_chain,
+    random_table, refused, source, square_tables, table_at_by_hand, unit_by_hand, x_less,
 )
 
 from turnframe.errors import NoFit
@@ -127,7 +127,7 @@ class Frames(unittest.TestCase):
 
     def test_the_chain_of_the_blocks_of_a_chain(self):
         chance = source(251)
-        for kind in kinds():
+        for kind in few_kinds():
             for size in range(1, 8):
                 for degrees in falling_sizes(size):
                     chain = random_chain(chance, kind, degrees)

@@ -76,7 +76,7 @@ def names_at_top(tree):
         elif isinstance(node, ast.ImportFrom):
             found += [each.asname or each.name for each in node.names]
         elif isinstance(node, ast.Assign):
-            found += [each.id for each in ast.walk(node) if isinstance(each, ast.Name)]
+            found += [each.id for target in node.targets for each in ast.walk(target) if isinstance(each, ast.Name)]
     return found
 
 

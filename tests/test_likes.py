@@ -3,8 +3,9 @@ import itertools
 import unittest
 
 from samples import (
-    blocks_of_chain, check_own, check_turns, falling_sizes, families, kinds, like, noughts, product_poly_by_hand,
-    random_chain, random_table, reduced_by_hand, refused, source, square_tables, table_at_by_hand, unit_by_hand,
+    blocks_of_chain, check_own, check_turns, falling_sizes, families, few_kinds, kinds, like, noughts,
+    poly_with_roots, product_poly_by_hand, random_chain, random_table, reduced_by_hand, refused, source,
+    square_tables, table_at_by_hand, unit_by_hand,
 )
 
 from turnframe.errors import NoFit
@@ -24,11 +25,8 @@ def rank_by_hand(kind, g, A):
 
 
 def block_of_power(kind, root, size):
-    """The companion of x less a root, taken so many times."""
-    f = [kind.number(1)]
-    for turn in range(size):
-        f = product_poly_by_hand(kind, f, [kind.number(-root), kind.number(1)])
-    return f
+    """The polynomial of x less a root, taken so many times."""
+    return poly_with_roots(kind, [(kind.number(root), size)])
 
 
 class Alike(unittest.TestCase):
@@ -69,7 +67,7 @@ class Alike(unittest.TestCase):
 
     def test_each_with_itself_and_with_like_ones(self):
         chance = source(261)
-        for kind in kinds():
+        for kind in few_kinds():
             for A in square_tables(chance, kind, (1, 2, 3, 7)):
                 self.check_alike(kind, A, A)
                 self.check_alike(kind, A, like(chance, kind, A))
@@ -85,7 +83,7 @@ class Alike(unittest.TestCase):
                 self.check(kind, A, B, frame(kind, A)[0] == frame(kind, B)[0])
 
     def test_unit_noughts_and_others(self):
-        for kind in kinds():
+        for kind in few_kinds():
             for size in range(1, 8):
                 one, none = unit_by_hand(kind, size), noughts(kind, size, size)
                 self.check(kind, one, none, False)
@@ -106,7 +104,7 @@ class Alike(unittest.TestCase):
 
     def test_the_same_great_and_the_same_least_polynomial(self):
         chance = source(263)
-        for kind in kinds():
+        for kind in few_kinds():
             for sizes, others in (([2, 2], [2, 1, 1]), ([3, 3, 1], [3, 2, 2]), ([3, 3, 1], [3, 2, 1, 1]),
                                   ([2, 2, 2, 1], [2, 2, 1, 1, 1]), ([4, 2, 1], [4, 1, 1, 1])):
                 A = like(chance, kind, blocks_of_chain(kind, [block_of_power(kind, 1, each) for each in sizes]))
@@ -124,7 +122,7 @@ class Alike(unittest.TestCase):
 
     def test_chains_of_all_degrees(self):
         chance = source(264)
-        for kind in kinds():
+        for kind in few_kinds():
             tables = [blocks_of_chain(kind, random_chain(chance, kind, degrees)) for degrees in falling_sizes(5)]
             for one, other in itertools.combinations(range(len(tables)), 2):
                 self.check(kind, tables[one], like(chance, kind, tables[other]), False)
@@ -168,7 +166,7 @@ class AskersOwn(unittest.TestCase):
 
     def test_answers_are_new_and_what_was_handed_in_is_as_it_was(self):
         chance = source(2)
-        for kind in kinds():
+        for kind in few_kinds():
             for A in (random_table(chance, kind, 3, 3, 5), unit_by_hand(kind, 3), noughts(kind, 3, 3),
                       blocks_of_chain(kind, random_chain(chance, kind, [2, 1]))):
                 check_own(self, alike, [kind, A, A])

@@ -1,7 +1,7 @@
 """Frames: the chain of a square table, the table of its blocks, and the turns between both."""
 
 from turnframe.solving import inverse
-from turnframe.splits import heads
+from turnframe.splits import chain_of, heads
 from turnframe.tables import image, need_square, set_down, turned
 
 
@@ -41,7 +41,7 @@ def frame_by(kind, A, some):
     for head in some:
         columns.extend(led_columns(kind, A, head))
     both = turns_of(kind, columns)
-    return ([head[0] for head in some], both[0], both[1])
+    return (chain_of(some), both[0], both[1])
 
 
 def frame(kind, A):

@@ -19,6 +19,10 @@ class Kind:
         # A whole number that takes the bottoms from all of some; only fractions have any.
         return 1
 
+    def common_top(self, some):
+        # The greatest whole number that divides the tops of all of some; only those of fractions are asked.
+        return 1
+
 
 class Fractions(Kind):
 
@@ -72,6 +76,12 @@ class Fractions(Kind):
             if bottom % one[1] != 0:
                 bottom = bottom // divisor(bottom, one[1]) * one[1]
         return bottom
+
+    def common_top(self, some):
+        top = 0
+        for one in some:
+            top = divisor(top, one[0])
+        return top
 
     def is_nought(self, one):
         return one[0] == 0

@@ -3,7 +3,7 @@
 from turnframe.errors import NoFit
 from turnframe.frames import frame_by
 from turnframe.polys import common_part, divided
-from turnframe.splits import heads
+from turnframe.splits import chain_of, heads
 from turnframe.tables import need_square, times_table
 
 
@@ -26,18 +26,26 @@ def parting(kind, ours, theirs):
     return theirs[place]
 
 
-def alike(kind, A, B):
+def heads_of_both(kind, A, B):
     need_square(A)
     need_square(B)
     if len(A) != len(B):
         raise NoFit("only tables of as many rows are told alike or apart")
-    ours = heads(kind, A)
-    theirs = heads(kind, B)
-    chain = [head[0] for head in ours]
-    other = [head[0] for head in theirs]
-    if chain != other:
-        g = parting(kind, chain, other)
-        return ("apart", g, rank_at(kind, chain, g), rank_at(kind, other, g))
-    near = frame_by(kind, A, ours)
-    far = frame_by(kind, B, theirs)
-    return ("alike", times_table(kind, near[1], far[2]), times_table(kind, far[1], near[2]))
+    return (heads(kind, A), heads(kind, B))
+
+
+def are_alike(kind, A, B):
+    both = heads_of_both(kind, A, B)
+    return chain_of(both[0]) == chain_of(both[1])
+
+
+def alike(kind, A, B):
+    both = heads_of_both(kind, A, B)
+    ours = chain_of(both[0])
+    theirs = chain_of(both[1])
+    if ours != theirs:
+        g = parting(kind, ours, theirs)
+        return ("apart", g, rank_at(kind, ours, g), rank_at(kind, theirs, g))
+    here = frame_by(kind, A, both[0])
+    there = frame_by(kind, B, both[1])
+    return ("alike", times_table(kind, here[1], there[2]), times_table(kind, there[1], here[2]))

@@ -3,11 +3,7 @@
 from turnframe.leasts import climbed, gathered, least, tops_over
 from turnframe.polys import common_part, divided
 from turnframe.steps import free_kernel
-from turnframe.tables import image, scaled_row, turned
-
-
-def without_bottoms(kind, column):
-    return scaled_row(kind, kind.number(kind.common_bottom(column)), column)
+from turnframe.tables import image, plain_row, turned
 
 
 def facing(kind, A, head):
@@ -44,5 +40,10 @@ def heads(kind, A):
         left = left_room(kind, A, found[0])
         for f, column in heads(kind, left[0]):
             found.append((f, image(kind, left[1], column)))
-    # Any multiple serves as well; without bottoms its images have smaller numbers.
-    return [(f, without_bottoms(kind, column)) for f, column in found]
+    # Any multiple of a column serves as well, and a plain one has the smallest numbers.
+    return [(f, plain_row(kind, column)) for f, column in found]
+
+
+def chain_of(some):
+    """The chain alone, some being heads."""
+    return [head[0] for head in some]

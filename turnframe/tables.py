@@ -108,6 +108,11 @@ def freed(kind, table):
     return (rows, bottom)
 
 
+def plain_row(kind, row):
+    """The multiple of a row, not all noughts, without bottoms and without a common divisor of the tops."""
+    return scaled_row(kind, kind.number(kind.common_bottom(row), kind.common_top(row)), row)
+
+
 def evenly_freed(kind, table):
     """The table times one whole number that takes all of its bottoms, and that number."""
     numbers = []
