@@ -10,7 +10,7 @@ from turnframe.powers import power
 from turnframe.solving import inverse, solved
 from turnframe.splits import chain_of, heads
 from turnframe.steps import rank
-from turnframe.tables import need_square, plus_table, times_table
+from turnframe.tables import plus_table, times_table
 from turnframe.texts import read_figures, read_table, read_whole, show_number, show_numbers, show_table
 
 LETTERS = "abcdefghijklmnopqrstuvwxyz"
@@ -74,7 +74,6 @@ def read_one_row(kind, text):
 
 def chain_at(kind, A):
     # The frame itself is not asked: its turns may have far greater numbers than the chain.
-    need_square(A)
     return chain_of(heads(kind, A))
 
 

@@ -2,7 +2,7 @@
 
 from turnframe.solving import inverse
 from turnframe.splits import chain_of, heads
-from turnframe.tables import image, need_square, set_down, turned
+from turnframe.tables import image, set_down, turned
 
 
 def companion(kind, f):
@@ -45,5 +45,4 @@ def frame_by(kind, A, some):
 
 
 def frame(kind, A):
-    need_square(A)
     return frame_by(kind, A, heads(kind, A))

@@ -4,7 +4,7 @@ from turnframe.errors import NoFit
 from turnframe.frames import frame_by
 from turnframe.polys import common_part, divided
 from turnframe.splits import chain_of, heads
-from turnframe.tables import need_square, times_table
+from turnframe.tables import times_table
 
 
 def rank_at(kind, chain, g):
@@ -27,8 +27,6 @@ def parting(kind, ours, theirs):
 
 
 def heads_of_both(kind, A, B):
-    need_square(A)
-    need_square(B)
     if len(A) != len(B):
         raise NoFit("only tables of as many rows are told alike or apart")
     return (heads(kind, A), heads(kind, B))

@@ -5,7 +5,7 @@ from turnframe.leasts import image_at
 from turnframe.polys import Polys, divided, raised
 from turnframe.roots import roots, roots_and_left
 from turnframe.splits import heads
-from turnframe.tables import image, need_square, plain_row, plus_row, scaled_row, set_down
+from turnframe.tables import image, plain_row, plus_row, scaled_row, set_down
 
 
 def near_block(kind, root, size):
@@ -37,7 +37,6 @@ def near_columns(kind, A, head, root, times):
 
 
 def near(kind, A):
-    need_square(A)
     some = heads(kind, A)
     left = roots_and_left(kind, some[0][0])[1]
     if len(left) > 1:

@@ -33,7 +33,8 @@ def left_room(kind, A, head):
 def heads(kind, A):
     """A list of tuples of a polynomial and a column: the chain of a square table, and columns that lead to its frame.
 
-    Each polynomial is the least one of its column, and the columns' rooms part the whole room among them.
+    Each polynomial is the least one of its column, and the columns' rooms part the whole room among them. Where the
+    table is not square, it is refused with NoFit, as its least polynomial is.
     """
     found = [least(kind, A)]
     if len(found[0][0]) <= len(A):

@@ -80,16 +80,18 @@ def times_table(kind, A, B):
     return [sums_with(kind, columns, row) for row in A]
 
 
+def nought_row(kind, size):
+    return [kind.number(0) for place in range(size)]
+
+
 def set_down(kind, parts):
     """Square tables one after the other down where row and column are the same, and nought elsewhere."""
     size = sum([len(part) for part in parts])
     rows = []
     for part in parts:
-        ahead = len(rows)
-        for row in part:
-            wide = [kind.number(0) for place in range(size)]
-            wide[ahead:ahead + len(part)] = row
-            rows.append(wide)
+        ahead = nought_row(kind, len(rows))
+        behind = nought_row(kind, size - len(rows) - len(part))
+        rows.extend([ahead + row + behind for row in part])
     return rows
 
 
